@@ -1,0 +1,1 @@
+"""Cabmeters: what a taximeter tells of a trip, for all trips that fit."""

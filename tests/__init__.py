@@ -1,0 +1,1 @@
+"""The tests of cabmeters: run them with `bash .ci/run` or `python3 -m unittest`."""
