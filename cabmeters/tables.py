@@ -60,12 +60,16 @@ class Table:
     @classmethod
     def read(cls, text):
         """Return the table with this text."""
-        if not isinstance(text, str):
-            raise BadText(text)
-        worths = [number_in(word, MOST_WORTH) for word in text.split(" ")]
-        if not _is_worths(worths):
+        worths = worths_in(text) if isinstance(text, str) else None
+        if worths is None:
             raise BadText(text)
         return cls(worths)
+
+
+def worths_in(text):
+    """Return the list of the worths of the table with this text, a string, or None if there is none."""
+    worths = [number_in(word, MOST_WORTH) for word in text.split(" ")]
+    return worths if _is_worths(worths) else None
 
 
 def either_worths(time, way):

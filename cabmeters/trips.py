@@ -1,6 +1,6 @@
 """Trips: strings of digits, one for the speed of each tick."""
 
-from cabmeters.errors import BadText, BadTrip
+from cabmeters.errors import BadText, BadTop, BadTrip
 from cabmeters.integers import is_between, number_in
 
 MOST_TICKS = 2000
@@ -19,10 +19,23 @@ def is_speed(value):
     return is_between(value, 0, TOP_SPEED)
 
 
+def is_speeds(value):
+    """Tell whether any value is a string of one or more different digits."""
+    if not isinstance(value, str) or not (value.isascii() and value.isdigit()):
+        return False
+    return len(set(value)) == len(value)
+
+
 def check_trip(trip):
     """Raise BadTrip if any value is not a trip."""
     if not is_trip(trip):
         raise BadTrip(trip)
+
+
+def check_top(top):
+    """Raise BadTop if any value is not a greatest speed."""
+    if not is_speed(top):
+        raise BadTop(top)
 
 
 def way_of(trip):

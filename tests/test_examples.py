@@ -2,8 +2,13 @@
 
 import unittest
 
+from cabmeters.errors import BadClaim, BadStand, BadTick
+from cabmeters.meters import Meter
+from cabmeters.records import Record
 from cabmeters.tables import Table, both_of, count_of, either_of
 from cabmeters.trips import as_text, fastest, from_text, is_speed, is_trip, stops, way_of, ways_of
+from cabmeters.verdicts import is_paper, paper_of, sure_moves, sure_stops, trip_without, verdict_on, way_range
+from cabmeters.ways import both_ways, either_ways, least_ticks, least_top, price_ways, way_prices, way_trip
 
 
 class ExamplesTest(unittest.TestCase):
@@ -24,6 +29,64 @@ class ExamplesTest(unittest.TestCase):
             [Table.both(3, 1).worths, Table.changing(5, 2, 4).text(), either_of(Table.read("7 7 7 7 7 7 7 7 7 7")),
              Table.both(2, 0).same(Table.either(2, 0))],
             [[3, 4, 5, 6, 7, 8, 9, 10, 11, 12], '5 5 5 5 8 10 12 14 16 18', (7, 0), True])
+
+    def test_meters(self):
+        plain = Table.either(6, 2)
+        cab = Meter(10, 6, [plain], flag=30, each=10)
+        double = Meter(4, 4, [Table.both(1, 1), Table.both(0, 3)], [2])
+        self.assertEqual(
+            [cab.counts("0550"), cab("0550"), cab.prices("0550"), cab.jumps("0550"), cab.price_at(9), cab.price_at(10)],
+            [[0, 6, 16, 26, 32], 70, [30, 30, 50, 60, 70], [(1, 2), (2, 1), (3, 1)], 30, 40])
+        self.assertEqual(
+            [cab.start, cab.stand("05"), cab.after((0, 4), 5), double.counts("331"), double.stand("331")],
+            [(0, 10), (0, 6), ((0, 6), 2), [0, 4, 8, 11], (2, 1)])
+        self.assertEqual(
+            [double.text(), Meter.read(double.text()).same(double), cab.same(double)],
+            ['first 4 drop 4 flag 0 each 1\n1 2 3 4 5 6 7 8 9 10\nbehind 2\n0 3 6 9 12 15 18 21 24 27', True, False])
+        with self.assertRaises(BadStand) as held:
+            cab.after((0, 61), 5)
+        self.assertEqual(held.exception.given, (0, 61))
+
+    def test_ways(self):
+        cab = Meter(10, 6, [Table.either(6, 2)], flag=30, each=10)
+        self.assertEqual(
+            [either_ways(6, 2, 4, 32), either_ways(6, 2, 4, 24), both_ways(3, 1, 4, 20), either_ways(6, 2, 2, 25)],
+            [[(7, 16)], [(0, 12)], [(8, 8)], []])
+        self.assertEqual(
+            [price_ways(cab, 4, 70), cab(way_trip(cab, 4, 70, 13)), way_prices(cab, 4, 13), least_top(cab, 4, 70, 10),
+             least_ticks(cab, 70, 30)],
+            [[(5, 16)], 70, [60, 70, 80], 4, None])
+
+    def test_records_and_verdicts(self):
+        cab = Meter(10, 6, [Table.either(6, 2)], flag=30, each=10)
+        open_record = Record(cab, 2)
+        open_record.showed(2, 50)
+        record = Record(cab, 2)
+        record.showed(2, 50)
+        record.passed(1, 3)
+        self.assertEqual(
+            [open_record.how_many(), open_record.ways(2), record.how_many(), list(record.trips()), record.prices(1),
+             record.speeds(1)],
+            [30, [5, 6, 7, 8, 9, 10], 3, ['35', '36', '37'], [30], '567'])
+        self.assertEqual(
+            [record.facts(), record[1], record.fits("44"),
+             record.tried(lambda held: [held.jumped(0, True), held.how_many()])],
+            [[('showed', 2, 50), ('passed', 1, 3)], '0123456789', False, [None, 0]])
+        with self.assertRaises(BadTick) as held:
+            record[2]
+        self.assertEqual(held.exception.given, 2)
+        self.assertEqual(
+            [verdict_on(record, ("way", 2, 8)), verdict_on(record, ("speed", 1, "56")), verdict_on(record, ("price", 1, 40))],
+            ['always', 'sometimes', 'never'])
+        self.assertEqual(
+            [trip_without(record, ("speed", 1, "56")), sure_moves(record), sure_stops(record), way_range(record, 1, 2)],
+            ['37', [0, 1], [], (5, 7)])
+        self.assertEqual(
+            [is_paper(record, ("way", 2, 8), paper_of(record, ("way", 2, 8))), paper_of(record, ("speed", 1, "56"))],
+            [True, None])
+        with self.assertRaises(BadClaim) as held:
+            verdict_on(record, ("way", 3, 8))
+        self.assertEqual(held.exception.given, ('way', 3, 8))
 
 
 if __name__ == "__main__":
