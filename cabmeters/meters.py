@@ -9,10 +9,8 @@ MOST_COUNTS = 60
 MOST_FLAG = 1000
 MOST_EACH = 100
 MOST_TABLES = 3
-# The numbers in the first line of the text of a meter, each with the least and the greatest one.
+# The names of the numbers in the first line of the text of a meter.
 NAMES = ("first", "drop", "flag", "each")
-LEAST = (1, 1, 0, 1)
-MOST = (MOST_COUNTS, MOST_COUNTS, MOST_FLAG, MOST_EACH)
 
 
 class Meter:
@@ -130,10 +128,15 @@ class Meter:
 
     def after(self, stand, speed):
         """Return the tuple (stand, jumps) of the stand behind one more tick, and of the jumps in it."""
-        if not self._is_stand(stand):
+        known = self._known_stands
+        if known is None:
+            known = {behind: True for behind in self.stands()}
+        if not _is_pair(stand) or stand not in known:
             raise BadStand(stand)
         if not is_speed(speed):
             raise BadSpeed(speed)
+        # They are kept, as callers go from stand to stand, but only here: a call with an error changes nothing.
+        self._known_stands = known
         return self._step(stand, speed)
 
     def text(self):
@@ -202,15 +205,6 @@ class Meter:
         jumps, rest = divmod(worth - left, self._drop)
         return (self._stage_behind(stage + jumps + 1), self._drop - rest), jumps + 1
 
-    def _is_stand(self, value):
-        """Tell whether any value is a stand behind some trip."""
-        if not isinstance(value, tuple) or len(value) != 2 or not all([is_whole(part) for part in value]):
-            return False
-        # The stands are kept, as callers go from stand to stand.
-        if self._known_stands is None:
-            self._known_stands = {stand: True for stand in self.stands()}
-        return value in self._known_stands
-
 
 def _check_number(number, least, most):
     """Raise BadNumber if any value is not an integer from `least` to `most`."""
@@ -234,13 +228,20 @@ def _is_turns(value, many):
     return all([value[at] < value[at + 1] for at in range(many - 1)])
 
 
+def _is_pair(value):
+    """Tell whether any value is a tuple of two integers."""
+    return isinstance(value, tuple) and len(value) == 2 and is_whole(value[0]) and is_whole(value[1])
+
+
 def _numbers_in(line):
     """Return the list of the four numbers in the first line of the text of a meter, or None if there are none."""
     words = line.split(" ")
     if len(words) != 2 * len(NAMES) or words[::2] != list(NAMES):
         return None
-    numbers = [number_in(word, most) for word, most in zip(words[1::2], MOST)]
-    right = [is_between(number, least, most) for number, least, most in zip(numbers, LEAST, MOST)]
+    least = (1, 1, 0, 1)
+    most = (MOST_COUNTS, MOST_COUNTS, MOST_FLAG, MOST_EACH)
+    numbers = [number_in(word, high) for word, high in zip(words[1::2], most)]
+    right = [is_between(number, low, high) for number, low, high in zip(numbers, least, most)]
     return numbers if all(right) else None
 
 

@@ -26,6 +26,12 @@ METHODS = """
     ilshift irshift neg pos invert abs bool contains getitem setitem
 """.split()
 BARRED_STATEMENTS = (ast.Global, ast.AsyncFunctionDef, ast.AsyncFor, ast.AsyncWith, ast.Await, ast.Import)
+BARRED_NAMES = re.compile(
+    r"\A(_(wall|pe_|dcw_|enum_|cm_|twin_re_|lay_|law_|stub_|sre).*"
+    r"|_(cold|tuplegetter|outside|record|written_out|member_names)[0-9_]*"
+    r"|register|mro|elements|open|input|law|version_info|with_traceback|add_note"
+    r"|attrgetter|breakpoint|builtins|compile|copyright|credits|delattr|dir|eval|exec|exit|gc|globals|help|id|importlib"
+    r"|license|locals|methodcaller|os|quit|type|vars|sys)\Z")
 BARRED_WORDS = re.compile(
     r"\b(typing|typing_extensions|enum|Enum|IntEnum|StrEnum|Flag|IntFlag|Generic|Protocol|ABC|ABCMeta|namedtuple"
     r"|NamedTuple|TypedDict|TYPE_CHECKING|abstractmethod|_wall|_WallAttr|metaclass)\b|dataclass|overload"
@@ -118,6 +124,48 @@ class CodeTest(unittest.TestCase):
             name = getattr(node, "id", None) or getattr(node, "arg", None) or getattr(node, "name", None)
             if stored and not (isinstance(node, ast.FunctionDef) and name.startswith("__")):
                 self.assertFalse(hasattr(builtins, name), (place, name))
+
+    def test_no_barred_names(self):
+        for place, node in nodes((ast.Name, ast.arg, ast.FunctionDef, ast.ClassDef, ast.Attribute, ast.keyword)):
+            for name in [getattr(node, field, None) for field in ("id", "arg", "name", "attr")]:
+                if name is not None:
+                    self.assertNotRegex(name, BARRED_NAMES, place)
+        self.assertEqual([place for place, node in nodes(ast.ClassDef) if not node.name[0].isalpha()], [])
+
+    def test_names_of_properties_and_generators(self):
+        functions = [node for _, node in nodes(ast.FunctionDef)]
+        properties = {node.name for node in functions if any(ast.unparse(at) == "property" for at in node.decorator_list)}
+        others = [node.name for node in functions if not node.decorator_list]
+        self.assertEqual([name for name in others if name in properties], [])
+        attributes = {node.attr for _, node in nodes(ast.Attribute) if isinstance(node.ctx, ast.Store)}
+        self.assertEqual(attributes & properties, set())
+        names = [node.name for node in functions]
+        for node in functions:
+            if any(isinstance(part, (ast.Yield, ast.YieldFrom)) for part in ast.walk(node)):
+                self.assertEqual(names.count(node.name), 1, node.name)
+
+    def test_no_local_name_is_that_of_an_import_or_a_class(self):
+        for path in paths():
+            tree = ast.parse(path.read_text())
+            bound = {name.name for part in tree.body if isinstance(part, ast.ImportFrom) for name in part.names}
+            bound |= {part.name for part in tree.body if isinstance(part, ast.ClassDef)}
+            for node in ast.walk(tree):
+                name = node.arg if isinstance(node, ast.arg) else getattr(node, "id", None)
+                if isinstance(node, ast.arg) or isinstance(getattr(node, "ctx", None), ast.Store):
+                    self.assertNotIn(name, bound, (path.name, node.lineno))
+
+    def test_no_sorting_in_place_and_no_sets_of_many_kinds(self):
+        for place, node in nodes(ast.Call):
+            if isinstance(node.func, ast.Attribute):
+                self.assertNotEqual(node.func.attr, "sort", place)
+            if isinstance(node.func, ast.Name) and node.func.id == "sorted":
+                self.assertNotIsInstance(node.args[0], ast.GeneratorExp, place)
+        self.assertEqual([place for place, node in nodes(ast.GeneratorExp)], [])
+
+    def test_exponents_are_literals(self):
+        for place, node in nodes(ast.BinOp):
+            if isinstance(node.op, ast.Pow):
+                self.assertIsInstance(node.right, ast.Constant, place)
 
     def test_double_underscore_methods_and_decorators(self):
         for place, node in nodes(ast.FunctionDef):

@@ -193,6 +193,27 @@ class CountsTest(unittest.TestCase):
                 self.assertEqual(meter.price_at(count), plain.price(meter, count))
             self.assertEqual(meter.price_at(HUGE), meter.flag + meter.each * (1 + (HUGE - meter.first) // meter.drop))
 
+    def test_counts_of_prices(self):
+        for meter in meters():
+            prices = [plain.price(meter, count) for count in range(400)]
+            for price in range(prices[0] - 1, prices[100] + 2):
+                counts = [count for count, at in enumerate(prices) if at == price]
+                self.assertEqual(meter.span_of(price), (counts[0], counts[-1]) if counts else None)
+                self.assertEqual(meter.count_for(price), min(count for count, at in enumerate(prices) if at >= price))
+            least, greatest = meter.span_of(meter.flag + meter.each * HUGE)
+            self.assertEqual([meter.price_at(count) - meter.flag for count in (least - 1, least, greatest, greatest + 1)],
+                             [meter.each * number for number in (HUGE - 1, HUGE, HUGE, HUGE + 1)])
+            self.assertEqual(meter.count_for(meter.flag + meter.each * HUGE), least)
+
+    def test_scales(self):
+        for meter in meters():
+            scales = meter.scales()
+            self.assertEqual([begin for begin, _ in scales], [0] + [
+                min(count for count in range(2000) if plain.jumps_at(meter, count) >= turn) for turn in meter.turns])
+            self.assertEqual([list(worths) for _, worths in scales], [table.worths for table in meter.tables])
+            for count in range(0, 700, 7):
+                self.assertEqual(list(meter.worths_behind(meter.jumps_at(count))), plain.worths_at(meter, count))
+
     def test_price_at_no_count(self):
         for value in no_numbers(0):
             check_given(self, BadNumber, value, cab_meter().price_at, value)

@@ -289,6 +289,23 @@ class PaperTest(unittest.TestCase):
         self.assertEqual(paper_of(record, claim), [[(0, 0)], [], []])
         self.assertFalse(is_paper(record, claim, [[(0, 0)], [(2, 1)], []]))
 
+    def test_places_beyond_all_trips_at_which_something_does_not_hold(self):
+        record = Record(Meter(4, 4, [Table([2] * 10)], flag=5, each=3), 2, 1)
+        paper = [[(0, 0)], [(2, 0), (2, 1), (4 * HUGE, 6)], []]
+        price = 5 + 3 * HUGE
+        self.assertEqual(record.meter.price_at(4 * HUGE + 2), price)
+        for told, claim, shows in (
+            ((), ("price", 2, price), False), ((2, 8), ("price", 2, price), False), ((2, 8), ("price", 2, 8), True),
+            ((2, 8), ("price", 2, 9), False), ((2, 5), ("way", 2, 7), True), ((2, price), ("way", 2, 7), False),
+            ((2, price), ("way", 2, 6), True), ((2, price), ("price", 2, price), True), ((2, price), ("price", 2, price + 1), False),
+        ):
+            with self.subTest(told=told, claim=claim):
+                with record.trial():
+                    if told:
+                        record.showed(*told)
+                    self.assertIs(plain.shows(record, claim, paper), shows)
+                    self.assertIs(is_paper(record, claim, paper), shows)
+
     def test_facts_about_jumps_and_claims_about_speeds(self):
         record = Record(Meter(3, 3, [Table(list(range(10)))]), 2, 4)
         record.jumped(0, True)
