@@ -71,6 +71,44 @@ class Rates:
                 found[rest + self._rate * others_way] = True
         return list(found)
 
+    def fewest(self, low, high, way, most):
+        """Return the least number of ticks, at most so many, of trips with this way and a sum from `low` to `high`.
+
+        It is None if there is no such trip.
+        """
+        if self._slow_top < 0 or self._slow_top == self._top:
+            ticks = self._fewest_alike(low, high, way)
+        else:
+            ticks = self._fewest_mixed(low, high, way, most)
+        return ticks if ticks is not None and ticks <= most else None
+
+    def _fewest_alike(self, low, high, way):
+        """Return what `fewest` does, without its bound, if all ticks are slow, or none is."""
+        seen = 0 if self._slow_top == self._top else self._rate * way
+        # With fewer ticks, the way or the sum is out of reach.
+        ticks = max(_over(way, self._top), _over(low - seen, self._time))
+        if way > ticks * self._top or not low <= seen + self._time * ticks <= high:
+            return None
+        return ticks
+
+    def _fewest_mixed(self, low, high, way, most):
+        """Return what `fewest` does if some speeds are those of slow ticks, and greater ones are not."""
+        # Without a time, slow ticks add nothing at all: a shortest trip has none.
+        most_slow = min(most, high // self._time) if self._time > 0 else 0
+        fewest = None
+        for slow in range(most_slow + 1):
+            if fewest is not None and slow >= fewest:
+                break
+            rest = self._time * slow
+            # The others drive what the slow ones cannot, and count what still lacks.
+            least = max(0, way - self._slow_way(slow), _over(low - rest, self._rate))
+            greatest = min(way, (high - rest) // self._rate)
+            others = _over(least, self._top)
+            # If these ticks drive too much even at their slowest, more of them do so, too.
+            if least <= greatest and others * (self._slow_top + 1) <= greatest:
+                fewest = slow + others if fewest is None else min(fewest, slow + others)
+        return fewest
+
     def _most_slow(self, ticks):
         """Return the greatest number of slow ticks."""
         return ticks if self._slow_top >= 0 else 0
@@ -149,11 +187,11 @@ def least_ticks(meter, price, way, top=TOP_SPEED):
     _check_price(price)
     _check_way(way)
     check_top(top)
-    rates = Rates(plain, top)
-    for ticks in range(MOST_TICKS + 1):
-        if _trip(meter, rates, ticks, price, way) is not None:
-            return ticks
-    return None
+    span = meter.span_of(price)
+    if span is None:
+        return None
+    low, high = span
+    return Rates(plain, top).fewest(low, high, way, MOST_TICKS)
 
 
 def short_form(stretches):
@@ -199,6 +237,13 @@ def _trip(meter, rates, ticks, price, way):
         return None
     low, high = span
     return rates.trip(ticks, low, high, way)
+
+
+def _over(amount, share):
+    """Return the least number of shares that are at least an amount, 0 for an amount below 0 or shares of 0."""
+    if amount <= 0 or share == 0:
+        return 0
+    return -(-amount // share)
 
 
 def _spread(way, ticks):

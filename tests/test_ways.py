@@ -1,6 +1,7 @@
 """Tests of cabmeters.ways: points [18] to [22], and points [3] and [4] for them."""
 
 import random
+import time
 import unittest
 
 from cabmeters.errors import BadNumber, BadPrice, BadTicks, BadTop, BadWay, NotPlain
@@ -309,6 +310,95 @@ class PricesTest(unittest.TestCase):
             kept = list(returned)
             returned.clear()
             self.assertEqual(call(*arguments), kept)
+
+
+def small_plain_meters(many):
+    """Return a list of meters with one table of time and way, always the same ones."""
+    some = random.Random(22)
+    meters = []
+    while len(meters) < many:
+        kind = some.choice((Table.either, Table.either, Table.both))
+        time, way = some.choice((0, 1, 3, 6, some.randint(0, 60))), some.randint(0, 6)
+        if time + 9 * way <= 60 or kind == Table.either:
+            meters.append(Meter(some.randint(1, 30), some.randint(1, 20), [kind(time, way)],
+                                flag=some.choice((0, 30)), each=some.choice((1, 7, 10))))
+    return meters
+
+
+class LeastTicksTest(unittest.TestCase):
+    def test_the_input_of_the_fault_report(self):
+        self.assertIsNone(least_ticks(Meter(10, 6, [Table.either(6, 2)], flag=30, each=10), 70, 30))
+
+    def test_compared_with_listing_all_trips(self):
+        nones = 0
+        for place, meter in enumerate(small_plain_meters(60)):
+            top = (1, 2, 3, 0, 4)[place % 5]
+            most = (8, 6, 5, 9, 4)[place % 5]
+            least = {}
+            for ticks in range(most + 1):
+                for trip in plain.all_trips(ticks, top):
+                    least.setdefault((plain.price(meter, plain.counts(meter, trip)[-1]), sum(map(int, trip))), ticks)
+            prices = sorted({price for price, _ in least})
+            for price in prices[:3] + prices[-2:] + [prices[-1] + meter.each, meter.flag + 2 * meter.each]:
+                for way in range(0, most * top + 2, 2):
+                    ticks = least_ticks(meter, price, way, top)
+                    if ticks is None or ticks > most:
+                        self.assertNotIn((price, way), least)
+                        nones += ticks is None
+                    else:
+                        self.assertEqual(ticks, least.get((price, way)))
+        self.assertGreater(nones, 300)
+
+    def test_many_ticks_compared_with_counting_tick_by_tick(self):
+        for meter in small_plain_meters(25):
+            for top in (9, 3):
+                worths = meter.tables[0].worths
+                some = random.Random(meter.text())
+                wanted = {}
+                for _ in range(12):
+                    trip = "".join(some.choices("0123456789"[:top + 1], k=some.randint(0, 12)))
+                    price, way = meter(trip), sum(map(int, trip))
+                    for other in (price, price + meter.each, price + 3 * meter.each, price + 1):
+                        for also in (way, way + 1, way + 4, max(0, way - 6)):
+                            wanted[other, also] = None
+                found = {(0, 0)}
+                greatest = max(price for price, _ in wanted)
+                for ticks in range(41):
+                    prices = {(plain.price(meter, count), way) for count, way in found}
+                    for price, way in wanted:
+                        if wanted[price, way] is None and (price, way) in prices:
+                            wanted[price, way] = ticks
+                    found = {(count + worths[speed], way + speed) for count, way in found for speed in range(top + 1)}
+                    found = {(count, way) for count, way in found
+                             if way < 130 and plain.price(meter, count) <= greatest}
+                for price, way in wanted:
+                    ticks = least_ticks(meter, price, way, top)
+                    # Beyond 40 ticks, only the steps through all ways would tell.
+                    self.assertEqual(None if ticks is not None and ticks > 40 else ticks, wanted[price, way])
+
+    def test_very_many_ticks(self):
+        self.assertEqual(least_ticks(Meter(60, 60, [Table.either(1, 6)]), 6, 0), 360)
+        self.assertEqual(least_ticks(Meter(60, 60, [Table.either(1, 6)]), 6, 59), 13)
+        self.assertEqual(least_ticks(Meter(1, 1, [Table.either(1, 3)]), 400, 0), 400)
+        self.assertIsNone(least_ticks(Meter(1, 1, [Table.either(1, 3)]), 401, 0))
+        self.assertEqual(least_ticks(Meter(1, 1, [Table.either(1, 3)]), 401, 1), 399)
+        self.assertEqual(least_ticks(Meter(1, 1, [Table.either(0, 0)]), 0, 3600), 400)
+        self.assertIsNone(least_ticks(Meter(1, 1, [Table.either(0, 0)]), 0, 3601))
+        self.assertEqual(least_ticks(Meter(60, 60, [Table.both(1, 1)]), 6, 20, 1), 340)
+        self.assertIsNone(least_ticks(Meter(60, 60, [Table.both(1, 1)]), 7, 10, 1))
+
+    def test_many_calls_end_soon(self):
+        some = random.Random(9)
+        meters = small_plain_meters(200)
+        begin = time.perf_counter()
+        nones = 0
+        for meter in meters:
+            trip = "".join(some.choices("0123456789", k=some.randint(0, 12)))
+            price = meter(trip) + some.choice((0, meter.each, 1)) + meter.each * some.randint(0, 3)
+            nones += least_ticks(meter, price, sum(map(int, trip)) + some.randint(0, 30)) is None
+        self.assertGreaterEqual(nones, 100)
+        # The program that asked each number of ticks for itself took some ten seconds.
+        self.assertLess(time.perf_counter() - begin, 1)
 
 
 class ShortFormTest(unittest.TestCase):
