@@ -115,22 +115,13 @@ class Meter:
     def stands(self, top=TOP_SPEED):
         """Return the ascending list of the stands behind all trips with no speed above `top`."""
         check_top(top)
-        found = {self.start: True}
-        waiting = [self.start]
-        while waiting:
-            stand = waiting.pop()
-            for speed in range(top + 1):
-                behind, _ = self._step(stand, speed)
-                if behind not in found:
-                    found[behind] = True
-                    waiting.append(behind)
-        return sorted(list(found))
+        return sorted(list(self.ahead(top)))
 
     def after(self, stand, speed):
         """Return the tuple (stand, jumps) of the stand behind one more tick, and of the jumps in it."""
         known = self._known_stands
         if known is None:
-            known = {behind: True for behind in self.stands()}
+            known = {behind: True for behind in self.ahead(TOP_SPEED)}
         if not _is_pair(stand) or stand not in known:
             raise BadStand(stand)
         if not is_speed(speed):
@@ -160,6 +151,20 @@ class Meter:
             raise BadText(text)
         first, drop, flag, each = numbers
         return cls(first, drop, [Table(worths) for worths in rows], turns, flag=flag, each=each)
+
+    def ahead(self, top):
+        """Return a dict from the stands behind trips with no speed above `top` to what follows there.
+
+        This is a list of the tuples (stand, jumps) of a tick with each speed up to `top`, as `after` returns them.
+        """
+        found = {}
+        waiting = [self.start]
+        while waiting:
+            stand = waiting.pop()
+            if stand not in found:
+                found[stand] = [self._step(stand, speed) for speed in range(top + 1)]
+                waiting.extend([behind for behind, _ in found[stand]])
+        return found
 
     def jumps_at(self, count):
         """Return the number of jumps of a count."""

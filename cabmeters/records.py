@@ -131,6 +131,12 @@ class Record:
         if survey.layers()[0]:
             yield from survey.trips_on("", 0, 0)
 
+    def any_trip(self):
+        """Return a trip that fits, or None if there is none."""
+        for trip in self.trips():
+            return trip
+        return None
+
     def ways(self, tick):
         """Return the ascending list of the ways directly before a tick in trips that fit."""
         self.check_place(tick)
@@ -177,7 +183,27 @@ class Record:
         if not is_between(tick, 0, len(self._left)):
             raise BadTick(tick)
 
+    def take(self, fact):
+        """Tell a fact that is written as in the list of the facts."""
+        kind, tick, told = fact
+        if kind == "speeds":
+            self.only(tick, told)
+        elif kind == "passed":
+            self.passed(tick, told)
+        elif kind == "showed":
+            self.showed(tick, told)
+        else:
+            self.jumped(tick, told)
+
     def _tell(self, kind, tick, told):
         """Add a fact."""
         self._facts = self._facts + ((kind, tick, told),)
         self._survey = None
+
+
+def record_with(meter, ticks, top, facts):
+    """Return a new record that was told a list of facts."""
+    record = Record(meter, ticks, top)
+    for fact in facts:
+        record.take(fact)
+    return record

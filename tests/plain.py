@@ -165,3 +165,43 @@ def shows(record, claim, paper):
                                   if of_tick == tick and fact == "jumped")
                 if counts_here and not (kind == "speed" and at == tick and digit in told):
                     led.add((behind, way + int(digit)))
+
+
+def following(meter, stand, speed):
+    """Return the tuple (stand, jumps) of a tick from a stand on, counted one by one."""
+    stage, left = stand
+    worths = [table.worths for table in meter.tables][sum(turn <= stage for turn in meter.turns)]
+    jumps = 0
+    for _ in range(worths[speed]):
+        left -= 1
+        if left == 0:
+            jumps += 1
+            left = meter.drop
+    return (min(stage + jumps, max(meter.turns)) if meter.turns else 0, left), jumps
+
+
+def pairs_ahead(one, other, starts, top):
+    """Return a dict from all pairs of stands behind some pairs to the list of the tuples (pair, excess) of a tick."""
+    found = {}
+    waiting = list(starts)
+    while waiting:
+        pair = waiting.pop()
+        if pair not in found:
+            found[pair] = []
+            for speed in range(top + 1):
+                stand, jumps = following(one, pair[0], speed)
+                other_stand, other_jumps = following(other, pair[1], speed)
+                found[pair].append(((stand, other_stand), one.each * jumps - other.each * other_jumps))
+                waiting.append((stand, other_stand))
+    return found
+
+
+def greatest_gains(ahead):
+    """Return a dict from each pair to the greatest excess that can follow, or None if that grows for ever somewhere."""
+    amounts = {pair: 0 for pair in ahead}
+    for _ in range(len(ahead) + 1):
+        last = amounts
+        amounts = {pair: max([0] + [gain + last[behind] for behind, gain in ahead[pair]]) for pair in ahead}
+        if amounts == last:
+            return amounts
+    return None

@@ -2,7 +2,13 @@
 
 import unittest
 
+from cabmeters.against import (
+    alike_pairs, excess_amounts, excess_ring, greatest_excess, is_alike_pairs, is_excess_amounts, never_dearer,
+    parting_trip)
+from cabmeters.clashes import (
+    best_look, fewest_clash, greatest_worth, kept_facts, least_worth, look_numbers, needless_facts, record_of)
 from cabmeters.errors import BadClaim, BadStand, BadTick
+from cabmeters.hires import best_split, greatest_cost, greatest_saving, is_saving_amounts, saving_amounts, split_price
 from cabmeters.meters import Meter
 from cabmeters.records import Record
 from cabmeters.tables import Table, both_of, count_of, either_of
@@ -87,6 +93,50 @@ class ExamplesTest(unittest.TestCase):
         with self.assertRaises(BadClaim) as held:
             verdict_on(record, ("way", 3, 8))
         self.assertEqual(held.exception.given, ('way', 3, 8))
+
+    def test_clashes(self):
+        fuller = Record(Meter(10, 6, [Table.either(6, 2)], flag=30, each=10), 2)
+        fuller.showed(2, 50)
+        fuller.passed(1, 3)
+        fuller.jumped(0, False)
+        self.assertEqual(
+            [needless_facts(fuller), kept_facts(fuller), record_of(fuller, [1]).how_many(), fewest_clash(fuller)],
+            [[2], [0, 1], 10, None])
+        self.assertEqual(
+            [best_look(fuller), look_numbers(fuller, ("price", 1)),
+             least_worth(fuller, [[0] * 10, [9, 9, 9, 9, 9, 5, 2, 7, 9, 9]])],
+            [(('speed', 1), 1), {30: 3}, (2, '36')])
+        fuller.showed(1, 40)
+        self.assertEqual([fewest_clash(fuller), greatest_worth(fuller, [[1] * 10, [1] * 10])], [[1, 3], None])
+
+    def test_against(self):
+        cab = Meter(10, 6, [Table.either(6, 2)], flag=30, each=10)
+        slow = Meter(10, 6, [Table.either(5, 2)], flag=30, each=10)
+        self.assertEqual(
+            [len(parting_trip(cab, slow)), len(parting_trip(cab, slow, 3)), alike_pairs(cab, slow),
+             is_alike_pairs(cab, cab, alike_pairs(cab, cab))],
+            [2, 3, None, True])
+        self.assertEqual(
+            [never_dearer(slow, cab), never_dearer(cab, slow), greatest_excess(slow, cab)[0], greatest_excess(cab, slow),
+             excess_ring(slow, cab)],
+            [True, False, 0, None, None])
+        front, ring = excess_ring(cab, slow)
+        self.assertEqual(
+            [cab(front + ring) - slow(front + ring) > cab(front) - slow(front),
+             is_excess_amounts(slow, cab, excess_amounts(slow, cab), 0)],
+            [True, True])
+
+    def test_hires(self):
+        cab = Meter(10, 6, [Table.either(6, 2)], flag=30, each=10)
+        dear = Meter(6, 6, [Table.both(1, 0), Table.both(3, 0)], [2])
+        self.assertEqual(
+            [split_price(dear, "0" * 12, []), split_price(dear, "0" * 12, [5]), best_split(dear, "0" * 16)[0],
+             best_split(dear, "0" * 16, 2)[0], dear("0" * 16)],
+            [2, 1, 0, 1, 4])
+        self.assertEqual([greatest_saving(dear)[0], greatest_cost(cab)[0], greatest_saving(cab)[0]], [5, 30, -10])
+        self.assertEqual(
+            [is_saving_amounts(cab, saving_amounts(cab), -10), is_saving_amounts(cab, saving_amounts(cab), -20)],
+            [True, False])
 
 
 if __name__ == "__main__":
