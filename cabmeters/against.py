@@ -1,6 +1,6 @@
 """Two meters against one another: trips that part them, and by how much one of them can be the dearer one."""
 
-from cabmeters.graphs import Gains, Graph, Parting
+from cabmeters.graphs import Gains, Graph, parting_from
 from cabmeters.integers import is_whole
 from cabmeters.trips import TOP_SPEED, check_top
 
@@ -10,7 +10,7 @@ def parting_trip(one, other, top=TOP_SPEED):
     check_top(top)
     if one.flag != other.flag:
         return ""
-    return Parting([_stands_graph(one, top), _stands_graph(other, top)]).trip(0, 1)
+    return parting_from(one.start, other.start, priced_steps(one, top), priced_steps(other, top))
 
 
 def alike_pairs(one, other, top=TOP_SPEED):
@@ -98,10 +98,10 @@ def holds_amounts(one, other, amounts, top):
     return True
 
 
-def _stands_graph(meter, top):
-    """Return the graph of the stands of a meter, where a tick gains what it adds to the price."""
+def priced_steps(meter, top):
+    """Return the function from a stand to the list of the tuples (stand, what a tick adds to the price) behind it."""
     rows = meter.ahead(top)
-    return Graph([meter.start], lambda stand: [(behind, meter.each * jumps) for behind, jumps in rows[stand]])
+    return lambda stand: [(behind, meter.each * jumps) for behind, jumps in rows[stand]]
 
 
 def _row(one, other, steps, other_steps):

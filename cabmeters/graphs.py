@@ -33,11 +33,7 @@ class Graph:
 
     def trip_to(self, place):
         """Return a shortest trip that leads to a place from one of the nodes to begin with."""
-        speeds = []
-        while self._origins[place] is not None:
-            place, speed = self._origins[place]
-            speeds.append(str(speed))
-        return "".join(speeds[::-1])
+        return _trip_back(self._origins, place)
 
     def _place_of(self, node, origin):
         """Return the place of a node, which gets one if it has none."""
@@ -124,58 +120,59 @@ class Gains:
         return self._rows[place][self._choices[place]][0]
 
 
-class Parting:
-    """The shortest trips that part the beginnings of graphs: such with which they do not gain the same.
+def parting_from(node, other_node, ahead, other_ahead):
+    """Return a shortest trip that does not gain the same from two nodes on, or None if there is none.
 
-    In each round, those places are told apart from which some trip with one tick more gains not the same.
+    `ahead` and `other_ahead` are functions as for a graph, for each of the two nodes and for all that follow it.
     """
-
-    def __init__(self, graphs):
-        self._rows = []
-        self._starts = []
-        for graph in graphs:
-            offset = len(self._rows)
-            self._starts.append(offset)
-            self._rows.extend([[(offset + place, gain) for place, gain in row] for row in graph.rows()])
-        gains = [tuple([gain for _, gain in row]) for row in self._rows]
-        # For each number of ticks, the list of the kinds of all places that such trips tell apart.
-        self._rounds = [[0 for _ in self._rows], _kinds(gains)]
-        behind = [[place for place, _ in row] for row in self._rows]
-        while self._goes_on():
-            kinds = self._rounds[-1]
-            self._rounds.append(_kinds([(kinds[at], tuple([kinds[place] for place in places]))
-                                        for at, places in enumerate(behind)]))
-
-    def trip(self, one, other):
-        """Return a shortest trip that parts the beginnings of two of the graphs, told by numbers, or None."""
-        place = self._starts[one]
-        other_place = self._starts[other]
-        parted = [kinds[place] != kinds[other_place] for kinds in self._rounds]
-        trip = ""
-        if not parted[-1]:
-            return None
-        for kinds in self._rounds[:parted.index(True)][::-1]:
-            speed = self._parting_speed(place, other_place, kinds)
-            trip += str(speed)
-            place = self._rows[place][speed][0]
-            other_place = self._rows[other_place][speed][0]
-        return trip
-
-    def _goes_on(self):
-        """Tell whether the last round told more apart than the one before, and not all beginnings yet."""
-        before, last = self._rounds[-2:]
-        starts = {last[place]: True for place in self._starts}
-        return max(last) > max(before) and len(starts) < len(self._starts)
-
-    def _parting_speed(self, place, other_place, kinds):
-        """Return a speed that gains not the same from two places, or leads to places of unlike kinds."""
-        for speed, (step, other_step) in enumerate(zip(self._rows[place], self._rows[other_place])):
-            if step[1] != other_step[1] or kinds[step[0]] != kinds[other_step[0]]:
-                return speed
-        return None
+    pairs = [(node, other_node)]
+    origins = [None]
+    leaders = {}
+    _join(leaders, (0, node), (1, other_node))
+    at = 0
+    while at < len(pairs):
+        node, other_node = pairs[at]
+        for speed, (step, other_step) in enumerate(zip(ahead(node), other_ahead(other_node))):
+            if step[1] != other_step[1]:
+                return _trip_back(origins, at) + str(speed)
+            # A trip that parts two nodes that are joined parts a pair by which they were, too, which was found before.
+            if _join(leaders, (0, step[0]), (1, other_step[0])):
+                pairs.append((step[0], other_step[0]))
+                origins.append((at, speed))
+        at += 1
+    return None
 
 
-def _kinds(signs):
-    """Return a list of numbers from 0 on, one for each sign in a list: equal signs have equal numbers."""
-    numbers = {}
-    return [numbers.setdefault(sign, len(numbers)) for sign in signs]
+def _trip_back(origins, place):
+    """Return the trip to a place, from the list of the tuples (place, speed) by which each place was found first."""
+    speeds = []
+    while origins[place] is not None:
+        place, speed = origins[place]
+        speeds.append(str(speed))
+    return "".join(speeds[::-1])
+
+
+def _join(leaders, node, other_node):
+    """Join two nodes, and return whether they were not joined before.
+
+    Nodes are joined that have the same leader; `leaders` leads from each node to its leader in one or more steps.
+    """
+    leader = _leader_of(leaders, node)
+    other_leader = _leader_of(leaders, other_node)
+    if leader == other_leader:
+        return False
+    leaders[leader] = other_leader
+    return True
+
+
+def _leader_of(leaders, node):
+    """Return the leader of a node, and make the steps to it fewer."""
+    leader = node
+    while leader in leaders:
+        leader = leaders[leader]
+    while node in leaders:
+        following = leaders[node]
+        if following != leader:
+            leaders[node] = leader
+        node = following
+    return leader

@@ -5,13 +5,17 @@ import unittest
 from cabmeters.against import (
     alike_pairs, excess_amounts, excess_ring, greatest_excess, is_alike_pairs, is_excess_amounts, never_dearer,
     parting_trip)
+from cabmeters.bent import Bent, faults_that_show, hidden_pairs, telling_list, telling_trip
+from cabmeters.cards import Card, both_number, both_trip, shared_ways
 from cabmeters.clashes import (
     best_look, fewest_clash, greatest_worth, kept_facts, least_worth, look_numbers, needless_facts, record_of)
 from cabmeters.errors import BadClaim, BadStand, BadTick
 from cabmeters.hires import best_split, greatest_cost, greatest_saving, is_saving_amounts, saving_amounts, split_price
+from cabmeters.longest import greatest_pace, is_pace_amounts, most_by_ticks, most_in, pace_amounts
 from cabmeters.meters import Meter
 from cabmeters.records import Record
 from cabmeters.tables import Table, both_of, count_of, either_of
+from cabmeters.town import Route, dearer_waits, is_waits_paper, waits_paper
 from cabmeters.trips import as_text, fastest, from_text, is_speed, is_trip, stops, way_of, ways_of
 from cabmeters.verdicts import is_paper, paper_of, sure_moves, sure_stops, trip_without, verdict_on, way_range
 from cabmeters.ways import both_ways, either_ways, least_ticks, least_top, price_ways, way_prices, way_trip
@@ -137,6 +141,73 @@ class ExamplesTest(unittest.TestCase):
         self.assertEqual(
             [is_saving_amounts(cab, saving_amounts(cab), -10), is_saving_amounts(cab, saving_amounts(cab), -20)],
             [True, False])
+
+    def test_bent(self):
+        timer = Meter(4, 4, [Table.both(2, 0)])
+        stepper = Meter(2, 2, [Table.both(0, 1)])
+        late, slip = Bent(timer, "idle", 3), Bent(stepper, "lost", 4)
+        self.assertEqual(
+            [late.prices("00000"), slip.prices("1111"), Bent(stepper, "twice", 2)("5"), slip.number],
+            [[0, 0, 1, 1, 1, 2], [0, 0, 1, 1, 1], 3, 4])
+        self.assertEqual(
+            [len(telling_trip(timer, late)), telling_trip(stepper, slip, 1), telling_trip(timer, Bent(timer, "lost", 2))],
+            [4, '1111', None])
+        self.assertEqual(
+            [hidden_pairs(timer, Bent(timer, "lost", 2), 1) is None, telling_list([stepper, slip], 1),
+             faults_that_show(stepper, [0, 0, 1, 1, 1], "1111")],
+            [False, {(0, 1): '1111'}, [('lost', 3), ('lost', 4), ('idle', 3), ('idle', 4)]])
+
+    def test_town(self):
+        cab = Meter(10, 6, [Table.either(6, 2)], flag=30, each=10)
+        along = Route([("road", 6, 3), ("light", 2), ("road", 3, 3)])
+        around = Route([("road", 10, 5), ("light", 2), ("road", 5, 5)])
+        self.assertEqual(
+            [along.steps, along.lights, along.has("3303"), along.has("3333"), along.has("33000003")],
+            [9, [2], True, False, False])
+        self.assertEqual(
+            [along.prices(cab), len(along.trip_for(cab, 70)), along.trip_for(cab, 1000), around.prices(cab)[0]],
+            [[50, 60, 70, 80, 90, 100, 110, 120, 130], 5, None, 70])
+        self.assertEqual(
+            [dearer_waits(along, along, cab) is None, is_waits_paper(along, around, cab, [[(0, 0)], []]),
+             waits_paper(along, along, cab)],
+            [False, False, None])
+
+    def test_longest(self):
+        cab = Meter(10, 6, [Table.either(6, 2)], flag=30, each=10)
+        timer = Meter(4, 4, [Table.both(2, 0)])
+        stepper = Meter(2, 2, [Table.both(0, 1)])
+        self.assertEqual(
+            [most_by_ticks(timer, 4), most_by_ticks(stepper, 3, 1), most_in(cab, 1)[0], greatest_pace(timer)[0],
+             greatest_pace(cab)[0]],
+            [[0, 1, 1, 2, 2], [0, 1, 1, 2], 30, (1, 2), (30, 1)])
+        amounts = pace_amounts(stepper, 3)
+        self.assertEqual(
+            [is_pace_amounts(stepper, (3, 2), amounts, 3), is_pace_amounts(stepper, (1, 1), amounts, 3),
+             greatest_pace(stepper, 3)[0]],
+            [True, False, (3, 2)])
+
+    def test_cards(self):
+        cab = Meter(10, 6, [Table.either(6, 2)], flag=30, each=10)
+        slow = Meter(10, 6, [Table.either(5, 2)], flag=30, each=10)
+        card = Card(cab, 2)
+        card.tell("receipt", ("showed", 2, 50))
+        card.tell("square", ("passed", 1, 3))
+        self.assertEqual(
+            [card.names(), card.fact_of("square"), card.verdict(("way", 2, 8)), card.decisive(("way", 2, 8)),
+             card.record().how_many(), card.deeds()],
+            [['receipt', 'square'], ('passed', 1, 3), 'always', ['receipt', 'square'], 3, 2])
+        card.tell("square", ("passed", 1, 5))
+        self.assertEqual(
+            [card.verdict(("way", 2, 8)), card.tried(lambda held: [held.forget("receipt"), held.record().how_many()])],
+            ['sometimes', [None, 10]])
+        card.undo()
+        self.assertEqual([card.fact_of("square"), card.deeds()], [('passed', 1, 3), 2])
+        second = Card(slow, 2)
+        second.tell("receipt", ("showed", 2, 50))
+        second.tell("end", ("passed", 2, 9))
+        self.assertEqual(
+            [both_number(card, second), both_trip(card, second), shared_ways(card, second, 2)],
+            [1, '36', [9]])
 
 
 if __name__ == "__main__":
