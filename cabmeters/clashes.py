@@ -25,12 +25,15 @@ def fewest_clash(record):
     alone = [record_of(record, [number]) for number in range(many)]
     # For trips that are known, a list that tells which of the facts hold for it.
     known = []
-    for numbers in _choices(many):
-        if not any([all([holds[number] for number in numbers]) for holds in known]):
-            trip = record_of(record, numbers).any_trip()
-            if trip is None:
-                return numbers
-            known.append([single.fits(trip) for single in alone])
+    choices = [[]]
+    while choices:
+        for numbers in choices:
+            if not any([all([holds[number] for number in numbers]) for holds in known]):
+                trip = record_of(record, numbers).any_trip()
+                if trip is None:
+                    return numbers
+                known.append([single.fits(trip) for single in alone])
+        choices = _longer_choices(choices, many)
     return None
 
 
@@ -100,12 +103,13 @@ def greatest_worth(record, worths):
     return _greatest(record, worths)
 
 
-def _choices(many):
-    """Return the list of all ascending lists of numbers below this one: the shortest ones first, then in order."""
-    found = [[]]
-    for number in range(many):
-        found = found + [numbers + [number] for numbers in found]
-    return sorted(found, key=lambda numbers: (len(numbers), numbers))
+def _longer_choices(choices, many):
+    """Return the list, in order, of all ascending lists of numbers below this one, from those that are one shorter."""
+    longer = []
+    for numbers in choices:
+        least = numbers[-1] + 1 if numbers else 0
+        longer.extend([numbers + [number] for number in range(least, many)])
+    return longer
 
 
 def _is_needless(record, number, numbers):

@@ -16,7 +16,7 @@ class Drive:
         """Return the set of the counts behind a tick with a speed."""
         behind = 0
         for begin, end, worths in self._scales:
-            behind |= self._held(counts, begin, end) << worths[speed]
+            behind |= self._part(counts, begin, end) << worths[speed]
         return behind
 
     def points(self, counts, steps, most):
@@ -46,7 +46,7 @@ class Drive:
         """Return the bit of a count in a set from which a tick with a speed leads to a count, or None."""
         for begin, end, worths in self._scales:
             at = bit - worths[speed]
-            if at >= 0 and self._held(counts, begin, end) >> at & 1:
+            if at >= 0 and self._part(counts, begin, end) >> at & 1:
                 return at
         return None
 
@@ -72,7 +72,7 @@ class Drive:
             bit = self.before(counts, 0, bit)
         return bit
 
-    def _held(self, counts, begin, end):
+    def _part(self, counts, begin, end):
         """Return the part of a set of counts from one bit on and below another one."""
         if end is not None:
             counts = counts & bits(0, end - 1)

@@ -27,8 +27,8 @@ class Flow:
         # The latest tick that was asked for, and the fronts before it: without ways behind the last post, and with.
         self._at = 0
         self._fronts = {0: 1}
-        self._apart_at = 0
-        self._apart = {0: 1}
+        self._lanes_at = 0
+        self._lanes_fronts = {0: 1}
 
     def total(self):
         """Return the number of all trips that fit."""
@@ -110,13 +110,13 @@ class Flow:
 
     def _fronts_apart(self, tick):
         """Return what `_fronts_to` does for a tick behind the last post, with lanes."""
-        if tick < self._apart_at or self._apart_at < self._posts[-1]:
-            self._apart_at = self._posts[-1]
-            self._apart = self._fronts_to(self._posts[-1])
-        while self._apart_at < tick:
-            self._apart = self._fronts_behind(self._apart_at, self._apart, True)
-            self._apart_at += 1
-        return self._apart
+        if tick < self._lanes_at or self._lanes_at < self._posts[-1]:
+            self._lanes_at = self._posts[-1]
+            self._lanes_fronts = self._fronts_to(self._posts[-1])
+        while self._lanes_at < tick:
+            self._lanes_fronts = self._fronts_behind(self._lanes_at, self._lanes_fronts, True)
+            self._lanes_at += 1
+        return self._lanes_fronts
 
     def _fronts_behind(self, tick, fronts, apart):
         """Return the numbers of fronts behind a tick, with lanes or without, from those before it."""

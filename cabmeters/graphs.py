@@ -135,7 +135,7 @@ def parting_from(node, other_node, ahead, other_ahead):
         for speed, (step, other_step) in enumerate(zip(ahead(node), other_ahead(other_node))):
             if step[1] != other_step[1]:
                 return _trip_back(origins, at) + str(speed)
-            # A trip that parts two nodes that are joined parts a pair by which they were, too, which was found before.
+            # What parts two nodes that are joined already also parts a pair by which they were, found no later.
             if _join(leaders, (0, step[0]), (1, other_step[0])):
                 pairs.append((step[0], other_step[0]))
                 origins.append((at, speed))

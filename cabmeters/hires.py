@@ -21,8 +21,6 @@ def best_split(meter, trip, most=None):
     check_trip(trip)
     if most is not None and (not is_count(most) or most == 0):
         raise BadNumber(most)
-    if trip == "":
-        return meter.price_at(0), []
     columns = _part_prices(meter, trip)
     ticks = _cheapest_split(columns)
     if most is not None and len(ticks) >= most:
@@ -120,8 +118,8 @@ def _cheapest_split_up_to(columns, most):
     at = len(columns) - 2
     for before in rounds[:-1][::-1]:
         sums = [price + more for price, more in zip(before, columns[at + 1][1:])]
-        # A part that needs no further hire has its price already with one hire fewer.
-        if sums and min(sums) < before[at]:
+        # Only what is cheaper than all splits with fewer hires has one hire more. Then all hires before are needed.
+        if min(sums) < before[at]:
             at = sums.index(min(sums))
             ticks.append(at + 1)
     return ticks[::-1]

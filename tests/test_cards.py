@@ -190,10 +190,13 @@ class VerdictsTest(unittest.TestCase):
             names = card.names()
             for claim in self.claims(some, card):
                 def verdict(without):
-                    facts = [card.fact_of(name) for name in names if name != without]
-                    told = {plain.holds(claim, (trip, plain.ways(trip), [plain.price(meter, count) for count in plain.counts(meter, trip)]))
-                            for trip in plain.all_trips(ticks, top) if all(plain.agrees(meter, fact, trip) for fact in facts)}
-                    return {(): "none", (True,): "always", (False,): "never", (False, True): "sometimes"}[tuple(sorted(told))]
+                    record = Record(meter, ticks, top)
+                    for name in names:
+                        if name != without:
+                            tell(record, card.fact_of(name))
+                    told = {plain.holds(claim, row) for row in plain.rows(record)}
+                    kinds_of = {(): "none", (True,): "always", (False,): "never", (False, True): "sometimes"}
+                    return kinds_of[tuple(sorted(told))]
                 with self.subTest(seed=seed, claim=claim):
                     self.assertEqual(card.verdict(claim), verdict(None))
                     decisive = [name for name in names if verdict(name) != verdict(None)]

@@ -80,6 +80,13 @@ class SplitsTest(unittest.TestCase):
         self.assertEqual(best_split(meter, "0000", 1), (18, []))
         self.assertEqual(best_split(meter, "0000", None), (0, [1, 2, 3]))
 
+    def test_two_hires_that_cost_more_than_one_and_more_than_three(self):
+        # A part costs nothing but the flag up to 3 ticks, and the same from 4 ticks on.
+        meter = Meter(4, 60, [Table.both(1, 0), Table([0] * 10)], [1], flag=1, each=100)
+        self.assertEqual([best_split(meter, "0" * 9, most) for most in (1, 2)], [(101, [])] * 2)
+        self.assertEqual([best_split(meter, "0" * 9, most) for most in (3, 4, None)], [(3, [3, 6])] * 3)
+        self.assertEqual([best_split(meter, "0" * 10, most)[0] for most in (1, 2, 3, 4)], [101, 101, 101, 4])
+
     def test_300_ticks_compared_with_parts_that_are_added_one_by_one(self):
         some = random.Random(300)
         for meter, most in ((dear_meter(), None), (Meter(40, 1, [Table.either(7, 3)], flag=1), 70), (cab_meter(), 5),

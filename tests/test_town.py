@@ -202,8 +202,8 @@ def waited(meter, count, ticks):
     return count
 
 
-def is_shown(one, other, meter, paper):
-    """Tell what point 55 says of a paper, sentence by sentence."""
+def roads_between(one, other):
+    """Return two lists, one for each route, of the rows of roads before each light and behind the last one."""
     rows = []
     for route in (one, other):
         rows.append([[]])
@@ -212,6 +212,12 @@ def is_shown(one, other, meter, paper):
                 rows[-1].append([])
             else:
                 rows[-1][-1].append(stretch)
+    return rows
+
+
+def is_shown(one, other, meter, paper):
+    """Tell what point 55 says of a paper, sentence by sentence."""
+    rows = roads_between(one, other)
     holds = [min(pair) for pair in zip(one.lights, other.lights)]
     if len(paper) != len(holds) + 1 or (0, 0) not in paper[0]:
         return False
@@ -311,14 +317,7 @@ class WaitsTest(unittest.TestCase):
 
     def closed(self, one, other, meter, paper, pair):
         """Return a paper with a pair more in its first list, and with all pairs to which it leads."""
-        rows = []
-        for route in (one, other):
-            rows.append([[]])
-            for stretch in route.stretches:
-                if stretch[0] == "light":
-                    rows[-1].append([])
-                else:
-                    rows[-1][-1].append(stretch)
+        rows = roads_between(one, other)
         pairs = {pair}
         found = []
         for number, listed in enumerate(paper):
