@@ -1,7 +1,6 @@
 """Two meters against one another: trips that part them, and by how much one of them can be the dearer one."""
 
 from cabmeters.graphs import Gains, Graph, parting_from
-from cabmeters.integers import is_whole
 from cabmeters.trips import TOP_SPEED, check_top
 
 
@@ -116,14 +115,6 @@ def _following(one, other, pairs, top):
     """Return the list of what follows for each pair in a list, or None if one is no pair of stands of the meters."""
     rows = one.ahead(TOP_SPEED)
     other_rows = other.ahead(TOP_SPEED)
-    if not all([_is_pair(pair) and pair[0] in rows and pair[1] in other_rows for pair in pairs]):
+    if not all([len(pair) == 2 and pair[0] in rows and pair[1] in other_rows for pair in pairs]):
         return None
     return [_row(one, other, rows[stand][:top + 1], other_rows[other_stand][:top + 1]) for stand, other_stand in pairs]
-
-
-def _is_pair(value):
-    """Tell whether a value is a pair of tuples of two integers."""
-    if not isinstance(value, tuple) or len(value) != 2:
-        return False
-    return all([isinstance(stand, tuple) and len(stand) == 2 and all([is_whole(part) for part in stand])
-                for stand in value])

@@ -172,7 +172,6 @@ def _leader_of(leaders, node):
         leader = leaders[leader]
     while node in leaders:
         following = leaders[node]
-        if following != leader:
-            leaders[node] = leader
+        leaders[node] = leader
         node = following
     return leader

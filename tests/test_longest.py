@@ -173,7 +173,8 @@ class PaceTest(unittest.TestCase):
             papers = [amounts, {key: amounts[key] - 7 for key in amounts}, {key: 3 * amounts[key] for key in amounts}, {},
                       {**amounts, stand: amounts[stand] + 1}, {**amounts, stand: amounts[stand] - 1},
                       {**amounts, (9, 1): 0}, {**amounts, (0, 0): 0}, {**amounts, (): 0}, {**amounts, (0, 1, 1): 0},
-                      {key: amount for key, amount in amounts.items() if key != stand}, {key: 0 for key in amounts}]
+                      {key: amount for key, amount in amounts.items() if key != stand}, {key: 0 for key in amounts},
+                      {key if key != stand else (9, 61): amount for key, amount in amounts.items()}]
             for paper in papers:
                 for pace in ((upper, lower), (3 * upper, 3 * lower), (upper + 1, lower), (upper - 1, lower), (0, 1), (-1, 2)):
                     given = dict(paper)
