@@ -87,6 +87,7 @@ class Gains:
                 before[behind].append((place, speed, gain))
         # What was found last mostly follows what was found first.
         waiting = list(range(len(self._rows)))[::-1]
+        unchecked = 0
         while waiting:
             raised = {}
             for behind in waiting:
@@ -97,16 +98,20 @@ class Gains:
                         self._choices[place] = speed
                         raised[place] = True
             waiting = list(raised)
-            ring_place = self._ring_behind(waiting)
-            if ring_place is not None:
-                return ring_place
+            unchecked += len(waiting)
+            # Looking for a ring costs about what so many places cost that are raised.
+            if unchecked >= len(self._rows):
+                unchecked = 0
+                ring_place = self._place_on_ring()
+                if ring_place is not None:
+                    return ring_place
         return None
 
-    def _ring_behind(self, places):
-        """Return a place on a ring of choices to which the choices lead from one of these places, or None."""
+    def _place_on_ring(self):
+        """Return a place on a ring of choices, or None if there is none."""
         # Each choice was better than what its place had before, so that a ring of choices gains more than 0.
         seen = {}
-        for first in places:
+        for first in range(len(self._rows)):
             place = first
             while self._choices[place] is not None and place not in seen:
                 seen[place] = first
