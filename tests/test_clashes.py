@@ -356,6 +356,17 @@ class WorthsTest(unittest.TestCase):
         record.passed(0, 1)
         self.assertEqual([least_worth(record, []), greatest_worth(record, [])], [None, None])
 
+    def test_sums_of_all_small_sizes(self):
+        for ticks in range(1, 12):
+            for size in range(1, 9):
+                record = Record(double_meter(), ticks, 1)
+                worths = [[0, size] + [9 * size] * 8 for _ in range(ticks)]
+                self.assertEqual(greatest_worth(record, worths), (size * ticks, "1" * ticks))
+                self.assertEqual(least_worth(record, worths), (0, "0" * ticks))
+                turned = [[size, 0] + [-size] * 8 for _ in range(ticks)]
+                self.assertEqual(greatest_worth(record, turned), (size * ticks, "0" * ticks))
+                self.assertEqual(least_worth(record, turned), (0, "1" * ticks))
+
     def test_16_ticks_compared_with_steps_from_place_to_place(self):
         some = random.Random(37)
         for meter, facts in (

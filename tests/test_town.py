@@ -311,6 +311,27 @@ class WaitsTest(unittest.TestCase):
                         told[shown] += 1
         self.assertGreater(min(told.values()), 100)
 
+    def test_papers_with_counts_of_all_sizes(self):
+        meter = Meter(1, 1, [Table.both(1, 1)])
+        one = Route([("road", 2, 2), ("light", 1), ("light", 2), ("road", 1, 1)])
+        other = Route([("road", 4, 1), ("light", 2), ("light", 1), ("road", 3, 1)])
+        paper = waits_paper(one, other, meter)
+        for size in list(range(0, 1500, 7)) + [10 ** 4, 10 ** 30]:
+            closed = self.closed(one, other, meter, paper, (size // 2, size))
+            self.assertIs(is_waits_paper(one, other, meter, closed), is_shown(one, other, meter, closed))
+            for number in (1, 2):
+                fewer = [listed[:-1] if at == number else listed for at, listed in enumerate(closed)]
+                self.assertIs(is_waits_paper(one, other, meter, fewer), is_shown(one, other, meter, fewer))
+
+    def test_last_roads_from_very_great_counts(self):
+        meter = Meter(1, 1, [Table.both(0, 1)])
+        one = Route([("light", 0), ("road", 5, 5)])
+        other = Route([("road", 1, 1), ("light", 0), ("road", 5, 5)])
+        for more, shown in ((0, True), (1, True), (-1, False)):
+            paper = [[(0, 0)], [(0, 1), (10 ** 30, 10 ** 30 + more)]]
+            self.assertIs(is_waits_paper(one, other, meter, paper), shown)
+            self.assertIs(is_shown(one, other, meter, paper), shown)
+
     def changed(self, paper, number, pair):
         """Return a paper with one pair more in one of its lists."""
         return [listed + [pair] if at == number else listed for at, listed in enumerate(paper)]
