@@ -74,10 +74,10 @@ def best_look(record):
     found = {}
     for tick in range(ticks + 1):
         # What is told of ways and prices comes first, as it mostly makes it needless to look at the speeds.
-        looks = [("way", tick, len(survey.layers()[tick])), ("price", tick, total)]
+        looks = [("price", _most_prices(record.meter, flow.counts(tick))), ("way", len(survey.layers()[tick]))]
         if tick < ticks:
-            looks.append(("speed", tick, len(record[tick])))
-        for kind, _, many in looks:
+            looks.append(("speed", len(record[tick])))
+        for kind, many in looks:
             # The greatest one of so many numbers is at least their mean.
             if total <= worst * many:
                 found[(kind, tick)] = max(list(_numbers(record, flow, (kind, tick)).values()))
@@ -148,6 +148,12 @@ def _numbers(record, flow, look):
         price = record.meter.price_at(count)
         numbers[price] = numbers.get(price, 0) + number
     return numbers
+
+
+def _most_prices(meter, counts):
+    """Return a number that no number of different prices of counts from the least to the greatest one is above."""
+    least, greatest = counts
+    return meter.jumps_at(greatest) - meter.jumps_at(least) + 1
 
 
 def _check_worths(record, worths):

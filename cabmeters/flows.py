@@ -29,10 +29,18 @@ class Flow:
         self._fronts = {0: 1}
         self._lanes_at = 0
         self._lanes_fronts = {0: 1}
+        # The latest tick between two posts about which ways and counts were asked for, and what was found.
+        self._joined_at = None
+        self._joined = []
 
     def total(self):
         """Return the number of all trips that fit."""
         return self._back(0)[0]
+
+    def counts(self, tick):
+        """Return the tuple of the least and the greatest count before a tick."""
+        alive = self._alive[tick]
+        return (alive & -alive).bit_length() - 1, alive.bit_length() - 1
 
     def way_numbers(self, tick):
         """Return a dict from the ways before a tick to the numbers of the trips that fit with them."""
@@ -46,14 +54,14 @@ class Flow:
             numbers = self._unpacked(lanes, low - post_way, len(self._spread_ways(tick)))
         else:
             numbers = [0 for _ in self._spread_ways(tick)]
-            for _, of_ways in self._joined(tick):
+            for _, of_ways in self._joined_before(tick):
                 numbers = [number + more for number, more in zip(numbers, of_ways)]
         return {low + place: number for place, number in enumerate(numbers) if number > 0}
 
     def count_numbers(self, tick):
         """Return a dict from the counts before a tick to the numbers of the trips that fit with them."""
         if len(self._layers[tick]) > 1 and tick < self._posts[-1]:
-            return {count: sum(of_ways) for count, of_ways in self._joined(tick)}
+            return {count: sum(of_ways) for count, of_ways in self._joined_before(tick)}
         fronts = self._fronts_to(tick)
         return {count: fronts[count] * number for count, number in self._back(tick).items()}
 
@@ -136,15 +144,18 @@ class Flow:
         full = (1 << self._width) - 1
         return {count: lanes >> (self._width * steps) & full for count, lanes in numbers.items()}
 
-    def _joined(self, tick):
+    def _joined_before(self, tick):
         """Return a list of the tuples (count, numbers) of the trips with each count and way before a tick.
 
         This is for a tick between two posts; the numbers are in the order of the ways from the lowest one on.
         """
-        fronts, _ = self._lanes(tick, self._fronts_to(tick), tick, False)
-        behind, _ = self._lanes(tick, self._back(tick), tick, True)
-        return [(count, [one * other for one, other in zip(fronts[count], numbers)])
-                for count, numbers in behind.items()]
+        if self._joined_at != tick:
+            fronts, _ = self._lanes(tick, self._fronts_to(tick), tick, False)
+            behind, _ = self._lanes(tick, self._back(tick), tick, True)
+            self._joined = [(count, [one * other for one, other in zip(fronts[count], numbers)])
+                            for count, numbers in behind.items()]
+            self._joined_at = tick
+        return self._joined
 
     def _lanes(self, tick, numbers, post_tick, turned):
         """Return the tuple (lists, low) of lists of the numbers in the lanes of all ways that trips have before a tick.

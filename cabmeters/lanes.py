@@ -19,10 +19,8 @@ class Lanes:
         return self._ones * number
 
     def only(self, lanes, counts):
-        """Return the lanes of some counts, with 0 in the others."""
+        """Return the lanes of some counts, with 0 in the others; lanes above the greatest count are left out."""
         counts = counts & self._counts
-        if counts == self._counts:
-            return lanes
         if counts not in self._known:
             self._known[counts] = self._spread(counts, "f")
         return lanes & self._known[counts]

@@ -13,15 +13,21 @@ def greatest_sum(survey, worths):
     gains = [[worth - min(row) for worth in row] for row in worths]
     # What cannot go on to the end gains less than this in all, what can has this at the end already.
     base = sum([max(row) for row in gains]) + 1
-    last = max([counts.bit_length() for counts in survey.layers()[-1].values()]) - 1
-    lanes = Lanes(last, (2 * base).bit_length() // 4 + 1)
+    digits = (2 * base).bit_length() // 4 + 1
     ticks = survey.ticks()
     ways = list(survey.layers()[ticks]) if _told_apart(survey, ticks) else [0]
+    lanes = _lanes_before(survey, ticks, digits)
     sums = [{way: lanes.only(lanes.all_with(base), survey.shown(ticks)) for way in ways}]
     for tick in range(ticks - 1, -1, -1):
-        sums.append(_sums_before(survey, tick, gains[tick], sums[-1], lanes))
+        sums.append(_sums_before(survey, tick, gains[tick], sums[-1], _lanes_before(survey, tick, digits)))
     trip = _trip_along(survey, gains, sums[::-1], lanes)
     return sum([row[int(digit)] for digit, row in zip(trip, worths)]), trip
+
+
+def _lanes_before(survey, tick, digits):
+    """Return the lanes for all counts that trips can have before a tick."""
+    most = max([counts.bit_length() for counts in survey.layers()[tick].values()]) - 1
+    return Lanes(most, digits)
 
 
 def _told_apart(survey, tick):

@@ -285,6 +285,23 @@ class LooksTest(unittest.TestCase):
             self.assertEqual((worst, look), (min(greatest), looks_of(record)[greatest.index(worst)]))
             self.assertTrue(all(sum(look_numbers(record, other).values()) == total for other in looks_of(record)[::17]))
 
+    def test_all_trips_of_40_ticks(self):
+        numbers = {0: 1}
+        for _ in range(20):
+            numbers = {way: sum(numbers.get(way - speed, 0) for speed in range(10)) for way in range(max(numbers) + 10)}
+        for meter in (cab_meter(), Meter(5, 5, [Table([0] * 10)]), triple_meter()):
+            record = Record(meter, 40)
+            self.assertEqual(look_numbers(record, ("way", 20)), {way: 10 ** 20 * numbers[way] for way in numbers})
+            for look in (("speed", 20), ("way", 40), ("price", 20), ("price", 40)):
+                self.assertEqual(sum(look_numbers(record, look).values()), 10 ** 40)
+            record.passed(40, 180)
+            total = sum(numbers[way] * numbers.get(180 - way, 0) for way in numbers)
+            self.assertEqual(look_numbers(record, ("way", 20)), {
+                way: numbers[way] * numbers[180 - way] for way in numbers if 180 - way in numbers})
+            for look in (("speed", 20), ("speed", 39), ("way", 39), ("price", 20), ("price", 40)):
+                self.assertEqual(sum(look_numbers(record, look).values()), total)
+            self.assertEqual(record.how_many(), total)
+
     def test_40_ticks_end_soon(self):
         for meter in (cab_meter(), double_meter(), triple_meter(), any_meter(3), any_meter(4)):
             begin = time.perf_counter()
